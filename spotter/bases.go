@@ -1,0 +1,48 @@
+package spotter
+
+func isBase(b byte) bool {
+	switch greatLetter(b) {
+	case 'A', 'C', 'G', 'T', 'N':
+		return true
+	}
+	return false
+}
+
+func greatLetter(b byte) byte {
+	if 'a' <= b && b <= 'z' {
+		return b - 'a' + 'A'
+	}
+	return b
+}
+
+func greatLetters(bases string) string {
+	great := make([]byte, len(bases))
+	for i := range len(bases) {
+		great[i] = greatLetter(bases[i])
+	}
+	return string(great)
+}
+
+// flip expects great letters.
+func flip(bases string) string {
+	flipped := make([]byte, len(bases))
+	for i := range len(bases) {
+		flipped[len(bases)-1-i] = partner(bases[i])
+	}
+	return string(flipped)
+}
+
+// partner tells the base that stands on the other strand.
+func partner(base byte) byte {
+	switch base {
+	case 'A':
+		return 'T'
+	case 'T':
+		return 'A'
+	case 'C':
+		return 'G'
+	case 'G':
+		return 'C'
+	}
+	return 'N'
+}

@@ -1,0 +1,120 @@
+package spotter
+
+const (
+	maxRefText   = 400 // bytes
+	maxReadsText = 600 // bytes
+	maxName      = 10
+	maxRef       = 200 // bases
+	maxReads     = 5
+	maxRead      = 30 // bases
+)
+
+// fault is what a reader panics with to give up. It has a type of its own so
+// that attempt can tell it from every other panic.
+type fault struct {
+	code  Errno
+	place int
+}
+
+// reader goes through a text once, from its first byte on.
+type reader struct {
+	text  string
+	place int
+	code  Errno // what is answered if the text is not as it must be
+}
+
+func (r *reader) giveUp() {
+	panic(fault{code: r.code, place: r.place})
+}
+
+func (r *reader) atEnd() bool {
+	return r.place == len(r.text)
+}
+
+func (r *reader) expect(b byte) {
+	if r.atEnd() || r.text[r.place] != b {
+		r.giveUp()
+	}
+	r.place++
+}
+
+func (r *reader) expectEnd() {
+	if !r.atEnd() {
+		r.giveUp()
+	}
+}
+
+// take reads as many bytes that fit as stand here, but never more than most,
+// so that a byte too many is met by whatever is expected next.
+func (r *reader) take(fits func(byte) bool, least int, most int) string {
+	start := r.place
+	for r.place-start < most && !r.atEnd() && fits(r.text[r.place]) {
+		r.place++
+	}
+	if r.place-start < least {
+		r.giveUp()
+	}
+	return r.text[start:r.place]
+}
+
+// nameLine reads the line that begins a reference or a read.
+func (r *reader) nameLine(sign byte) {
+	r.expect(sign)
+	r.take(isNameByte, 1, maxName)
+	r.expect('\n')
+}
+
+func readReference(text string) {
+	r := &reader{text: text, code: ErrRef}
+	r.nameLine('>')
+	count := r.baseLine(maxRef)
+	for !r.atEnd() {
+		count += r.baseLine(maxRef - count)
+	}
+}
+
+// baseLine reads one line of bases and tells how many they are. Where most is
+// 0 no line can stand, and it gives up at once.
+func (r *reader) baseLine(most int) int {
+	bases := r.take(isBase, 1, most)
+	r.expect('\n')
+	return len(bases)
+}
+
+func readReads(text string) {
+	r := &reader{text: text, code: ErrReads}
+	for count := 0; count < maxReads && !r.atEnd(); count++ {
+		r.oneRead()
+	}
+	r.expectEnd()
+}
+
+func (r *reader) oneRead() {
+	r.nameLine('@')
+	count := r.baseLine(maxRead)
+	r.expect('+')
+	r.expect('\n')
+	r.take(isMark, count, count)
+	r.expect('\n')
+}
+
+// readBases reads a text that is nothing but bases, and tells them in great
+// letters.
+func readBases(text string) string {
+	r := &reader{text: text, code: ErrBase}
+	bases := r.take(isBase, 0, len(text))
+	r.expectEnd()
+	return greatLetters(bases)
+}
+
+func isNameByte(b byte) bool {
+	switch {
+	case 'A' <= b && b <= 'Z', 'a' <= b && b <= 'z', '0' <= b && b <= '9':
+		return true
+	}
+	return b == '_' || b == '.'
+}
+
+func isMark(b byte) bool {
+	return 33 <= b && b <= 126
+}
