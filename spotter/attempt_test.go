@@ -36,7 +36,9 @@ func TestReadersGiveUpByAPanic(t *testing.T) {
 	}{
 		{func() { readReference(">r\nX\n") }, fault{ErrRef, 3}},
 		{func() { readReads("@a\nAC\n+\nI\n") }, fault{ErrReads, 9}},
-		{func() { readBases("ACX") }, fault{ErrBase, 2}},
+		{func() { readBases("ACX", 1, 3) }, fault{ErrBase, 2}},
+		{func() { readBases("ACGT", 1, 3) }, fault{ErrBase, 0}},
+		{func() { readBases("", 1, 3) }, fault{ErrBase, 0}},
 	} {
 		func() {
 			defer func() {

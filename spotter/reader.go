@@ -1,5 +1,7 @@
 package spotter
 
+import "strings"
+
 const (
 	maxRefText   = 400 // bytes
 	maxReadsText = 600 // bytes
@@ -64,21 +66,25 @@ func (r *reader) nameLine(sign byte) {
 	r.expect('\n')
 }
 
-func readReference(text string) {
+// readReference tells a reference's bases in great letters, so that nobody
+// behind it has to mind small ones.
+func readReference(text string) string {
 	r := &reader{text: text, code: ErrRef}
 	r.nameLine('>')
-	count := r.baseLine(maxRef)
+	var bases strings.Builder
+	bases.WriteString(r.baseLine(maxRef))
 	for !r.atEnd() {
-		count += r.baseLine(maxRef - count)
+		bases.WriteString(r.baseLine(maxRef - bases.Len()))
 	}
+	return greatLetters(bases.String())
 }
 
-// baseLine reads one line of bases and tells how many they are. Where most is
-// 0 no line can stand, and it gives up at once.
-func (r *reader) baseLine(most int) int {
+// baseLine reads one line of bases. Where most is 0 no line can stand, and it
+// gives up at once.
+func (r *reader) baseLine(most int) string {
 	bases := r.take(isBase, 1, most)
 	r.expect('\n')
-	return len(bases)
+	return bases
 }
 
 func readReads(text string) {
@@ -91,18 +97,22 @@ func readReads(text string) {
 
 func (r *reader) oneRead() {
 	r.nameLine('@')
-	count := r.baseLine(maxRead)
+	count := len(r.baseLine(maxRead))
 	r.expect('+')
 	r.expect('\n')
 	r.take(isMark, count, count)
 	r.expect('\n')
 }
 
-// readBases reads a text that is nothing but bases, and tells them in great
-// letters.
-func readBases(text string) string {
+// readBases reads a text that is nothing but bases, least to most of them, and
+// tells them in great letters. It asks for the length ahead of all else: a
+// text that is far too long must not be gone through.
+func readBases(text string, least int, most int) string {
 	r := &reader{text: text, code: ErrBase}
-	bases := r.take(isBase, 0, len(text))
+	if len(text) < least || len(text) > most {
+		r.giveUp()
+	}
+	bases := r.take(isBase, least, most)
 	r.expectEnd()
 	return greatLetters(bases)
 }

@@ -32,13 +32,30 @@ func Flip(bases string) (string, Errno) {
 	}
 	flipped := ""
 	met := attempt(func() {
-		flipped = flip(readBases(bases))
+		flipped = flip(readBases(bases, 0, maxRef))
 	})
 	return flipped, met.code
 }
 
 // Bins tells which stretches are looked at (P5).
-func Bins(ref string, bases string, k int, q int, step int) (string, Errno) { return "", OK }
+func Bins(ref string, bases string, k int, q int, step int) (string, Errno) {
+	if len(ref) > maxRefText {
+		return "", ErrLong
+	}
+	refBases, sought := "", ""
+	met := attempt(func() {
+		refBases = readReference(ref)
+		sought = readBases(bases, 1, maxRead)
+	})
+	if met.code != OK {
+		return "", met.code
+	}
+	by := settings{k: k, q: q, step: step}
+	if !by.mayBe(len(sought)) {
+		return "", ErrArg
+	}
+	return withCommas(lookedAt(refBases, sought, by)), OK
+}
 
 // Map tells all places of reads (P6).
 func Map(ref string, reads string, k int, q int, step int, workers int) (string, Errno, int) {
