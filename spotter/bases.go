@@ -1,5 +1,7 @@
 package spotter
 
+import "slices"
+
 func isBase(b byte) bool {
 	switch greatLetter(b) {
 	case 'A', 'C', 'G', 'T', 'N':
@@ -23,7 +25,12 @@ func greatLetters(bases string) string {
 	return string(great)
 }
 
-// flip expects great letters.
+// agree expects great letters, as all behind it do. N agrees with nothing, not
+// with N either.
+func agree(one byte, other byte) bool {
+	return one == other && one != 'N'
+}
+
 func flip(bases string) string {
 	flipped := make([]byte, len(bases))
 	for i := range len(bases) {
@@ -45,4 +52,10 @@ func partner(base byte) byte {
 		return 'C'
 	}
 	return 'N'
+}
+
+func backwards(text string) string {
+	turned := []byte(text)
+	slices.Reverse(turned)
+	return string(turned)
 }

@@ -62,8 +62,11 @@ func TestTextsOfAllKindsEndWell(t *testing.T) {
 				wantEmptyBesideError(t, "Bins", text, code)
 			})
 			endsWell(t, "Map", func() {
-				text, code, _ := spotter.Map(one, other, 0, 1, 1, 1)
+				text, code, place := spotter.Map(one, other, 0, 1, 1, 1)
 				wantEmptyBesideError(t, "Map", text, code)
+				if code == spotter.OK && place != 0 {
+					t.Errorf("P1: Map(%.40q, %.40q) tells the place %d beside OK", one, other, place)
+				}
 			})
 		}
 	}
@@ -91,14 +94,19 @@ func TestNumbersOfAllSizesEndWell(t *testing.T) {
 }
 
 func TestMapEndsWellAtNumbersOfAllSizes(t *testing.T) {
-	few := []int{math.MinInt, -1, 0, 1, 6, 8, 9, 201, math.MaxInt}
+	reads := asRead("a", "ACGTACG") + asRead("b", "TTTTTTTTT")
+	few := []int{math.MinInt, -1, 0, 1, 6, 8, 9, 200, 201, 1<<32 + 1, math.MaxInt}
 	for _, k := range few {
 		for _, q := range few {
 			for _, step := range few {
 				for _, workers := range few {
+					good := 0 <= k && k <= 6 && 1 <= q && q <= 8 && 1 <= step && step <= 200 && 1 <= workers && workers <= 8
 					endsWell(t, "Map", func() {
-						text, code, _ := spotter.Map(tenRef, goodReads, k, q, step, workers)
+						text, code, place := spotter.Map(tenRef, reads, k, q, step, workers)
 						wantEmptyBesideError(t, "Map", text, code)
+						if good != (code == spotter.OK) || place != 0 {
+							t.Errorf("P6: Map(.., %d, %d, %d, %d) answers the error %d at %d", k, q, step, workers, code, place)
+						}
 					})
 				}
 			}
@@ -120,6 +128,12 @@ func TestTooLongIsFoundByTheLength(t *testing.T) {
 		}
 		if _, code := spotter.Flip(great); code != spotter.ErrLong {
 			t.Fatalf("P1: Flip answers %d to great bases", code)
+		}
+		if _, code, place := spotter.Map(greatRef, great, -1, 0, 0, 0); code != spotter.ErrLong || place != 0 {
+			t.Fatalf("P1: Map answers %d, %d to great texts", code, place)
+		}
+		if _, code, place := spotter.Map(tenRef, great, 0, 1, 1, 1); code != spotter.ErrLong || place != 0 {
+			t.Fatalf("P1: Map answers %d, %d to great reads", code, place)
 		}
 		if _, code := spotter.Bins(greatRef, great, -1, 0, 0); code != spotter.ErrLong {
 			t.Fatalf("P1: Bins answers %d to a great reference", code)
@@ -187,6 +201,16 @@ func someTellings() []telling {
 		{checked(goodRef, goodReads), told{}},
 		{checked(">r\nACXT\n", goodReads), told{code: spotter.ErrRef, place: 5}},
 		{checked(goodRef, "@a\nAC\n+\nI\n"), told{code: spotter.ErrReads, place: 9}},
+		{mapped(tenRef, asRead("a", "GTA"), 0, 2, 4, 3), ok("@r\t10\na\t0\tr\t3\t3M\t0\t3\tGTA\t123\na\t272\tr\t4\t3M\t0\t3\tTAC\t321\n")},
+		{mapped(tenRef, asRead("a", "GTA"), 0, 1, 1, 8), ok("@r\t10\na\t0\tr\t3\t3M\t0\t3\tGTA\t123\na\t272\tr\t4\t3M\t0\t3\tTAC\t321\n")},
+		{mapped(tenRef, asRead("b", "GTA"), 0, 2, 4, 3), ok("@r\t10\nb\t0\tr\t3\t3M\t0\t3\tGTA\t123\nb\t272\tr\t4\t3M\t0\t3\tTAC\t321\n")},
+		{mapped(tenRef, asRead("a", "TTT"), 0, 2, 4, 3), ok("@r\t10\na\t0\tr\t8\t3M\t0\t3\tTTT\t123\n")},
+		{mapped(other, asRead("a", "GTA"), 0, 2, 4, 3), ok("@r\t10\na\t4\t*\t0\t*\t-\t-\tGTA\t123\n")},
+		{mapped(tenRef, "", 0, 2, 4, 3), ok("@r\t10\n")},
+		{mapped(tenRef, asRead("a", "GTA"), 3, 2, 4, 3), told{code: spotter.ErrArg}},
+		{mapped(tenRef, asRead("a", "GTA"), 0, 2, 4, 9), told{code: spotter.ErrArg}},
+		{mapped(tenRef, asRead("a", "GTX"), 0, 2, 4, 3), told{code: spotter.ErrReads, place: 5}},
+		{mapped(">r\nX\n", asRead("a", "GTA"), 0, 2, 4, 3), told{code: spotter.ErrRef, place: 3}},
 	}
 }
 

@@ -11,6 +11,19 @@ const (
 	maxRead      = 30 // bases
 )
 
+// reference and read hold what their texts say, the bases in great letters, so
+// that nobody behind the reader has to mind small ones.
+type reference struct {
+	name  string
+	bases string
+}
+
+type read struct {
+	name  string
+	bases string
+	marks string
+}
+
 // fault is what a reader panics with to give up. It has a type of its own so
 // that attempt can tell it from every other panic.
 type fault struct {
@@ -60,23 +73,22 @@ func (r *reader) take(fits func(byte) bool, least int, most int) string {
 }
 
 // nameLine reads the line that begins a reference or a read.
-func (r *reader) nameLine(sign byte) {
+func (r *reader) nameLine(sign byte) string {
 	r.expect(sign)
-	r.take(isNameByte, 1, maxName)
+	name := r.take(isNameByte, 1, maxName)
 	r.expect('\n')
+	return name
 }
 
-// readReference tells a reference's bases in great letters, so that nobody
-// behind it has to mind small ones.
-func readReference(text string) string {
+func readReference(text string) reference {
 	r := &reader{text: text, code: ErrRef}
-	r.nameLine('>')
+	name := r.nameLine('>')
 	var bases strings.Builder
 	bases.WriteString(r.baseLine(maxRef))
 	for !r.atEnd() {
 		bases.WriteString(r.baseLine(maxRef - bases.Len()))
 	}
-	return greatLetters(bases.String())
+	return reference{name: name, bases: greatLetters(bases.String())}
 }
 
 // baseLine reads one line of bases. Where most is 0 no line can stand, and it
@@ -87,21 +99,24 @@ func (r *reader) baseLine(most int) string {
 	return bases
 }
 
-func readReads(text string) {
+func readReads(text string) []read {
 	r := &reader{text: text, code: ErrReads}
-	for count := 0; count < maxReads && !r.atEnd(); count++ {
-		r.oneRead()
+	var reads []read
+	for len(reads) < maxReads && !r.atEnd() {
+		reads = append(reads, r.oneRead())
 	}
 	r.expectEnd()
+	return reads
 }
 
-func (r *reader) oneRead() {
-	r.nameLine('@')
-	count := len(r.baseLine(maxRead))
+func (r *reader) oneRead() read {
+	name := r.nameLine('@')
+	bases := r.baseLine(maxRead)
 	r.expect('+')
 	r.expect('\n')
-	r.take(isMark, count, count)
+	marks := r.take(isMark, len(bases), len(bases))
 	r.expect('\n')
+	return read{name: name, bases: greatLetters(bases), marks: marks}
 }
 
 // readBases reads a text that is nothing but bases, least to most of them, and

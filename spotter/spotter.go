@@ -15,13 +15,7 @@ const (
 
 // Check tells whether texts are a reference and reads (P3).
 func Check(ref string, reads string) (Errno, int) {
-	if len(ref) > maxRefText || len(reads) > maxReadsText {
-		return ErrLong, 0
-	}
-	met := attempt(func() {
-		readReference(ref)
-		readReads(reads)
-	})
+	_, _, met := readBoth(ref, reads)
 	return met.code, met.place
 }
 
@@ -42,24 +36,46 @@ func Bins(ref string, bases string, k int, q int, step int) (string, Errno) {
 	if len(ref) > maxRefText {
 		return "", ErrLong
 	}
-	refBases, sought := "", ""
+	var within reference
+	sought := ""
 	met := attempt(func() {
-		refBases = readReference(ref)
+		within = readReference(ref)
 		sought = readBases(bases, 1, maxRead)
 	})
 	if met.code != OK {
 		return "", met.code
 	}
 	by := settings{k: k, q: q, step: step}
-	if !by.mayBe(len(sought)) {
+	if !by.mayBe() || !by.mayServe(sought) {
 		return "", ErrArg
 	}
-	return withCommas(lookedAt(refBases, sought, by)), OK
+	return withCommas(lookedAt(within.bases, sought, by)), OK
 }
 
 // Map tells all places of reads (P6).
 func Map(ref string, reads string, k int, q int, step int, workers int) (string, Errno, int) {
-	return "", OK, 0
+	within, all, met := readBoth(ref, reads)
+	if met.code != OK {
+		return "", met.code, met.place
+	}
+	by := settings{k: k, q: q, step: step}
+	if !by.mayBe() || !by.mayServeAll(all) || workers < 1 || workers > maxWorkers {
+		return "", ErrArg, 0
+	}
+	return tellPlaces(within, all, by, workers), OK, 0
+}
+
+// readBoth reads what Check and Map are given, so that both tell the same
+// faults at the same places.
+func readBoth(ref string, reads string) (within reference, all []read, met fault) {
+	if len(ref) > maxRefText || len(reads) > maxReadsText {
+		return reference{}, nil, fault{code: ErrLong}
+	}
+	met = attempt(func() {
+		within = readReference(ref)
+		all = readReads(reads)
+	})
+	return within, all, met
 }
 
 // attempt does some reading and tells the fault with which it gave up, or the

@@ -18,11 +18,26 @@ type settings struct {
 	step int // from the beginning of a stretch to that of the next
 }
 
-// mayBe tells whether so many bases may be sought by these settings.
-func (by settings) mayBe(count int) bool {
-	return 0 <= by.k && by.k <= maxErrors && by.k < count &&
+// mayBe tells whether the settings are within their limits, whatever is sought.
+func (by settings) mayBe() bool {
+	return 0 <= by.k && by.k <= maxErrors &&
 		1 <= by.q && by.q <= maxGram &&
 		1 <= by.step && by.step <= maxStep
+}
+
+// mayServe tells whether these bases may be sought: if each of them could be an
+// error, they would stand everywhere.
+func (by settings) mayServe(sought string) bool {
+	return by.k < len(sought)
+}
+
+func (by settings) mayServeAll(reads []read) bool {
+	for _, one := range reads {
+		if !by.mayServe(one.bases) {
+			return false
+		}
+	}
+	return true
 }
 
 // needed tells how many runs a stretch must share with so many bases to be
